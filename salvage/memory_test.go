@@ -1,0 +1,268 @@
+package salvage_test
+
+import (
+	"math/rand"
+	"runtime"
+	"slices"
+	"strings"
+	"sync"
+	"testing"
+	"time"
+	"unsafe"
+
+	"salvage/api"
+	"salvage/salvage"
+)
+
+// withRoom tells a list of the same, with spare room behind it that holds marks, and the whole room.
+func withRoom[T any](list []T, mark T) (short, whole []T) {
+	whole = slices.Clone(list)
+	for range 20 {
+		whole = append(whole, mark)
+	}
+	whole = whole[:len(whole):len(whole)]
+	return whole[:len(list)], whole
+}
+
+func TestP2EncodeLeavesWhatIsHandedIn(t *testing.T) {
+	r := rand.New(rand.NewSource(9))
+	for _, c := range []struct {
+		m    int
+		data []string
+	}{
+		{3, randomBlocks(r, 5, 24)},
+		{0, randomBlocks(r, 2, 8)},
+		{11, randomBlocks(r, 1, 64)},
+		{9, randomBlocks(r, 5, 24)},
+		{1, []string{"abcdefgh", "ab"}},
+		{1, nil},
+	} {
+		data, whole := withRoom(c.data, "spare")
+		before := slices.Clone(whole)
+		salvage.Encode(c.m, data)
+		if !slices.Equal(whole, before) {
+			t.Errorf("Encode(%d, ..) wrote into its list or its spare room: %q, before %q", c.m, whole, before)
+		}
+	}
+}
+
+func TestP2RebuildLeavesWhatIsHandedIn(t *testing.T) {
+	all := randomBlocks(rand.New(rand.NewSource(10)), 12, 16)
+	for _, c := range []struct {
+		k, m int
+		have []api.Block
+	}{
+		{3, 2, chosen(all, 4, 0, 3)},
+		{3, 2, chosen(all, 4, 1, 0, 3, 2)},
+		{2, 0, chosen(all, 1, 0)},
+		{3, 2, chosen(all, 4, 1)},
+		{3, 2, chosen(all, 4, 1, 4)},
+		{3, 2, nil},
+	} {
+		have, whole := withRoom(c.have, at(77, "spare"))
+		before := slices.Clone(whole)
+		salvage.Rebuild(c.k, c.m, have)
+		if !slices.Equal(whole, before) {
+			t.Errorf("Rebuild(%d, %d, ..) wrote into its list or its spare room: %#v, before %#v", c.k, c.m, whole, before)
+		}
+	}
+}
+
+func overlap(a, b string) bool {
+	if len(a) == 0 || len(b) == 0 {
+		return false
+	}
+	p, q := uintptr(unsafe.Pointer(unsafe.StringData(a))), uintptr(unsafe.Pointer(unsafe.StringData(b)))
+	return p < q+uintptr(len(b)) && q < p+uintptr(len(a))
+}
+
+func TestP2AnswersShareNothingWithArguments(t *testing.T) {
+	r := rand.New(rand.NewSource(11))
+	data := randomBlocks(r, 1, 16)
+	further, _ := salvage.Encode(3, data)
+	all := append(slices.Clone(data), further...)
+	have := chosen(all, 2, 1)
+	rebuilt, _ := salvage.Rebuild(1, 3, have)
+	for i, answer := range further {
+		if overlap(answer, data[0]) {
+			t.Errorf("Encode: further block %d is the memory of the data block", i)
+		}
+	}
+	for i, answer := range rebuilt {
+		for _, b := range have {
+			if overlap(answer, b.Data) {
+				t.Errorf("Rebuild: block %d is the memory of the block %d that was handed in", i, b.Number)
+			}
+		}
+	}
+}
+
+// scribble writes over a list and its spare room.
+func scribble(list []string) {
+	list = list[:cap(list)]
+	for i := range list {
+		list[i] = "scribbled"
+	}
+}
+
+// answers is what the five calls tell of some fixed arguments.
+func answers() (lists [][]string, rest []any) {
+	r := rand.New(rand.NewSource(12))
+	all := randomBlocks(r, 12, 32)
+	for _, m := range []int{0, 1, 5} {
+		l, e := salvage.Encode(m, all[:5])
+		lists, rest = append(lists, l), append(rest, e)
+	}
+	for _, numbers := range [][]int{{0, 1, 2, 3}, {3, 2, 1, 0}, {6, 0, 5, 3}, {0, 3, 5, 6, 1}, {4, 5, 6, 1}, {1, 2}, {1, 1, 2, 3}} {
+		l, e := salvage.Rebuild(4, 3, chosen(all, numbers...))
+		lists, rest = append(lists, l), append(rest, e)
+	}
+	rest = append(rest, salvage.Sum(all[0]))
+	for _, a := range []int{0, 1, 77, 255, 256} {
+		product, e := salvage.Times(a, 200)
+		inverse, f := salvage.Inverse(a)
+		rest = append(rest, product, e, inverse, f)
+	}
+	return lists, rest
+}
+
+func sameLists(a, b [][]string) bool {
+	return slices.EqualFunc(a, b, func(p, q []string) bool { return slices.Equal(p, q) })
+}
+
+func copied(lists [][]string) [][]string {
+	var list [][]string
+	for _, l := range lists {
+		list = append(list, slices.Clone(l))
+	}
+	return list
+}
+
+func TestP2AnswersAreNewMemory(t *testing.T) {
+	first, firstRest := answers()
+	kept := copied(first)
+	second, secondRest := answers()
+	if !sameLists(first, kept) {
+		t.Errorf("a later call changed what had come out: %q, before %q", first, kept)
+	}
+	if !sameLists(second, kept) || !slices.Equal(firstRest, secondRest) {
+		t.Errorf("the same arguments got another answer: %q, before %q", second, kept)
+	}
+	for i := range first {
+		scribble(first[i])
+		if !sameLists(second, kept) {
+			t.Fatalf("writing into one answer changed another one: %q, before %q", second, kept)
+		}
+		for j := i + 1; j < len(first); j++ {
+			if !slices.Equal(first[j], kept[j]) {
+				t.Fatalf("writing into answer %d changed answer %d: %q, before %q", i, j, first[j], kept[j])
+			}
+		}
+	}
+	third, thirdRest := answers()
+	if !sameLists(third, kept) || !slices.Equal(firstRest, thirdRest) {
+		t.Errorf("writing into answers changed later ones: %q, before %q", third, kept)
+	}
+}
+
+// What is handed in may be written over by the caller afterwards: nothing of it is kept.
+func TestP2NothingIsKept(t *testing.T) {
+	all := randomBlocks(rand.New(rand.NewSource(13)), 5, 8)
+	data, have := slices.Clone(all[:3]), chosen(all, 4, 2, 0)
+	further, _ := salvage.Encode(2, data)
+	rebuilt, _ := salvage.Rebuild(3, 2, have)
+	keptFurther, keptRebuilt := slices.Clone(further), slices.Clone(rebuilt)
+	scribble(data)
+	for i := range have {
+		have[i] = at(1, "scribble")
+	}
+	if !slices.Equal(further, keptFurther) || !slices.Equal(rebuilt, keptRebuilt) {
+		t.Errorf("writing into arguments changed answers: %q, %q", further, rebuilt)
+	}
+	if again, e := salvage.Encode(2, all[:3]); !slices.Equal(again, keptFurther) || e != api.OK {
+		t.Errorf("writing into arguments changed later answers: %q, %d", again, e)
+	}
+	if again, e := salvage.Rebuild(3, 2, chosen(all, 4, 2, 0)); !slices.Equal(again, keptRebuilt) || e != api.OK {
+		t.Errorf("writing into arguments changed later answers: %q, %d", again, e)
+	}
+}
+
+func TestP2CallsSideBySide(t *testing.T) {
+	lists, rest := answers()
+	var group sync.WaitGroup
+	for range 8 {
+		group.Go(func() {
+			for range 20 {
+				l, r := answers()
+				if !sameLists(l, lists) || !slices.Equal(r, rest) {
+					t.Error("side by side the same arguments got another answer")
+				}
+			}
+		})
+	}
+	group.Wait()
+}
+
+func TestP1ListsOfAnyLength(t *testing.T) {
+	many := slices.Repeat([]string{"abcdefgh"}, 1<<20)
+	for _, m := range []int{0, 1, -len(many), greatest, least} {
+		if l, e := salvage.Encode(m, many); len(l) != 0 || e != api.ErrArg {
+			t.Errorf("Encode(%d, a long list) = %d blocks, %d, want ErrArg", m, len(l), e)
+		}
+	}
+	have := make([]api.Block, 1<<20)
+	for i := range have {
+		have[i] = at(i, "abcdefgh")
+	}
+	refuseRebuild(t, 6, 6, have, api.ErrArg)
+	refuseRebuild(t, len(have), 0, have, api.ErrArg)
+	refuseRebuild(t, 1, len(have)-1, have, api.ErrArg)
+	long := strings.Repeat("x", 1<<24)
+	refuseRebuild(t, 1, 1, []api.Block{at(0, long)}, api.ErrArg)
+	refuseRebuild(t, 1, 1, []api.Block{at(0, "abcdefgh"), at(1, long)}, api.ErrArg)
+	if l, e := salvage.Encode(1, []string{long}); len(l) != 0 || e != api.ErrArg {
+		t.Errorf("Encode(1, a long block) = %d blocks, %d, want ErrArg", len(l), e)
+	}
+}
+
+func TestP1NoPanicAtAnyArguments(t *testing.T) {
+	numbers := append([]int{0, 1, 2, 3, 11, 12, 13, 255}, outside...)
+	sizes := []int{0, 1, 7, 8, 9, 16, 64, 65, 72}
+	r := rand.New(rand.NewSource(14))
+	one := func(list []int) int { return list[r.Intn(len(list))] }
+	for range 20000 {
+		k, m, size := one(numbers), one(numbers), one(sizes)
+		var have []api.Block
+		for range r.Intn(15) {
+			if r.Intn(10) == 0 {
+				size = one(sizes)
+			}
+			have = append(have, at(one(numbers), strings.Repeat("x", size)))
+		}
+		if l, e := salvage.Rebuild(k, m, have); e != api.OK && len(l) != 0 || e == api.OK && len(l) != k+m {
+			t.Fatalf("Rebuild(%d, %d, %#v) = %q, %d", k, m, have, l, e)
+		}
+		var data []string
+		for _, b := range have {
+			data = append(data, b.Data)
+		}
+		if l, e := salvage.Encode(m, data); e != api.OK && len(l) != 0 || e == api.OK && len(l) != m {
+			t.Fatalf("Encode(%d, %q) = %q, %d", m, data, l, e)
+		}
+	}
+}
+
+func TestP1NoGoroutineRunsOn(t *testing.T) {
+	before := runtime.NumGoroutine()
+	for range 50 {
+		answers()
+	}
+	// Goroutines of the test runner's own may be about to end; none may have been added.
+	for range 100 {
+		if runtime.NumGoroutine() <= before {
+			return
+		}
+		time.Sleep(time.Millisecond)
+	}
+	t.Errorf("%d goroutines run after the calls, %d before", runtime.NumGoroutine(), before)
+}
