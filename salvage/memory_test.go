@@ -76,6 +76,20 @@ func overlap(a, b string) bool {
 	return p < q+uintptr(len(b)) && q < p+uintptr(len(a))
 }
 
+func TestP2FlatAndPackLeaveWhatIsHandedIn(t *testing.T) {
+	for _, list := range [][]api.File{nil, named("a", "b/c", "d"), {file("z", "data")}, named("b", "a"), named("", "A"), named("a", "b", "c", "d", "e", "f", "g", "h", "i")} {
+		files, whole := withRoom(list, file("spare", "room"))
+		before := slices.Clone(whole)
+		salvage.Flat(files)
+		for _, c := range [][3]int{{1, 0, 8}, {2, 10, 64}, {3, 1, 16}, {0, 1, 8}} {
+			salvage.Pack(files, c[0], c[1], c[2])
+		}
+		if !slices.Equal(whole, before) {
+			t.Errorf("Flat or Pack wrote into its list or its spare room: %q, before %q", whole, before)
+		}
+	}
+}
+
 func TestP2AnswersShareNothingWithArguments(t *testing.T) {
 	r := rand.New(rand.NewSource(11))
 	data := randomBlocks(r, 1, 16)
@@ -97,16 +111,38 @@ func TestP2AnswersShareNothingWithArguments(t *testing.T) {
 	}
 }
 
-// scribble writes over a list and its spare room.
-func scribble(list []string) {
-	list = list[:cap(list)]
-	for i := range list {
-		list[i] = "scribbled"
+func TestP2FilesShareNothingWithArguments(t *testing.T) {
+	stream := slowStream([]api.File{file("a", "data"), file("b/c", strings.Repeat("x", 200))})
+	tree, _, _ := salvage.Tree(stream)
+	for _, f := range tree {
+		if overlap(f.Name, stream) || overlap(f.Data, stream) {
+			t.Errorf("Tree: %q is memory of the stream", f.Name)
+		}
+	}
+	again, _ := salvage.Flat(tree)
+	volumes, _ := salvage.Pack(tree, 1, 1, 64)
+	for _, f := range tree {
+		if overlap(again, f.Name) || overlap(again, f.Data) {
+			t.Errorf("Flat: the stream is memory of %q", f.Name)
+		}
+		for _, v := range volumes {
+			if overlap(v.Data, f.Data) {
+				t.Errorf("Pack: %s is memory of %q", v.Name, f.Name)
+			}
+		}
 	}
 }
 
-// answers is what the five calls tell of some fixed arguments.
-func answers() (lists [][]string, rest []any) {
+// scribble writes a mark over a list and its spare room.
+func scribble[T any](list []T, mark T) {
+	list = list[:cap(list)]
+	for i := range list {
+		list[i] = mark
+	}
+}
+
+// blockAnswers is what the calls on numbers and blocks tell of some fixed arguments.
+func blockAnswers() (lists [][]string, rest []any) {
 	r := rand.New(rand.NewSource(12))
 	all := randomBlocks(r, 12, 32)
 	for _, m := range []int{0, 1, 5} {
@@ -126,43 +162,68 @@ func answers() (lists [][]string, rest []any) {
 	return lists, rest
 }
 
-func sameLists(a, b [][]string) bool {
-	return slices.EqualFunc(a, b, func(p, q []string) bool { return slices.Equal(p, q) })
+// fileAnswers is what the calls on trees and archives tell of some fixed arguments.
+func fileAnswers() (lists [][]api.File, rest []any) {
+	full := []api.File{file("a", strings.Repeat("xyz", 60)), file("b/c", ""), file("b/d", "data")}
+	for _, tree := range [][]api.File{nil, full, full[1:], named("b", "a")} {
+		s, e := salvage.Flat(tree)
+		rest = append(rest, s, e)
+		for _, c := range [][3]int{{1, 0, 8}, {2, 3, 8}, {4, 8, 64}, {0, 1, 8}} {
+			l, e := salvage.Pack(tree, c[0], c[1], c[2])
+			lists, rest = append(lists, l), append(rest, e)
+		}
+	}
+	stream := slowStream(full)
+	for _, s := range []string{stream, "\x00", "", stream[:50], stream + "x"} {
+		l, e, place := salvage.Tree(s)
+		lists, rest = append(lists, l), append(rest, e, place)
+	}
+	return lists, rest
 }
 
-func copied(lists [][]string) [][]string {
-	var list [][]string
+func sameLists[T comparable](a, b [][]T) bool {
+	return slices.EqualFunc(a, b, func(p, q []T) bool { return slices.Equal(p, q) })
+}
+
+func copied[T any](lists [][]T) [][]T {
+	var list [][]T
 	for _, l := range lists {
 		list = append(list, slices.Clone(l))
 	}
 	return list
 }
 
-func TestP2AnswersAreNewMemory(t *testing.T) {
+func holdNewMemory[T comparable](t *testing.T, answers func() ([][]T, []any), mark T) {
+	t.Helper()
 	first, firstRest := answers()
 	kept := copied(first)
 	second, secondRest := answers()
 	if !sameLists(first, kept) {
-		t.Errorf("a later call changed what had come out: %q, before %q", first, kept)
+		t.Errorf("a later call changed what had come out: %#v, before %#v", first, kept)
 	}
 	if !sameLists(second, kept) || !slices.Equal(firstRest, secondRest) {
-		t.Errorf("the same arguments got another answer: %q, before %q", second, kept)
+		t.Errorf("the same arguments got another answer: %#v, before %#v", second, kept)
 	}
 	for i := range first {
-		scribble(first[i])
+		scribble(first[i], mark)
 		if !sameLists(second, kept) {
-			t.Fatalf("writing into one answer changed another one: %q, before %q", second, kept)
+			t.Fatalf("writing into one answer changed another one: %#v, before %#v", second, kept)
 		}
 		for j := i + 1; j < len(first); j++ {
 			if !slices.Equal(first[j], kept[j]) {
-				t.Fatalf("writing into answer %d changed answer %d: %q, before %q", i, j, first[j], kept[j])
+				t.Fatalf("writing into answer %d changed answer %d: %#v, before %#v", i, j, first[j], kept[j])
 			}
 		}
 	}
 	third, thirdRest := answers()
 	if !sameLists(third, kept) || !slices.Equal(firstRest, thirdRest) {
-		t.Errorf("writing into answers changed later ones: %q, before %q", third, kept)
+		t.Errorf("writing into answers changed later ones: %#v, before %#v", third, kept)
 	}
+}
+
+func TestP2AnswersAreNewMemory(t *testing.T) {
+	holdNewMemory(t, blockAnswers, "scribbled")
+	holdNewMemory(t, fileAnswers, file("scribbled", "over"))
 }
 
 // What is handed in may be written over by the caller afterwards: nothing of it is kept.
@@ -172,10 +233,8 @@ func TestP2NothingIsKept(t *testing.T) {
 	further, _ := salvage.Encode(2, data)
 	rebuilt, _ := salvage.Rebuild(3, 2, have)
 	keptFurther, keptRebuilt := slices.Clone(further), slices.Clone(rebuilt)
-	scribble(data)
-	for i := range have {
-		have[i] = at(1, "scribble")
-	}
+	scribble(data, "scribbled")
+	scribble(have, at(1, "scribble"))
 	if !slices.Equal(further, keptFurther) || !slices.Equal(rebuilt, keptRebuilt) {
 		t.Errorf("writing into arguments changed answers: %q, %q", further, rebuilt)
 	}
@@ -187,7 +246,22 @@ func TestP2NothingIsKept(t *testing.T) {
 	}
 }
 
-func TestP2CallsSideBySide(t *testing.T) {
+func TestP2TreesAreNotKept(t *testing.T) {
+	tree := []api.File{file("a", "data"), file("b", "more")}
+	kept := slices.Clone(tree)
+	volumes, _ := salvage.Pack(tree, 2, 2, 8)
+	keptVolumes := slices.Clone(volumes)
+	scribble(tree, file("scribbled", "over"))
+	if !slices.Equal(volumes, keptVolumes) {
+		t.Errorf("writing into a tree changed its volumes: %q", volumes)
+	}
+	if again, e := salvage.Pack(kept, 2, 2, 8); !slices.Equal(again, keptVolumes) || e != api.OK {
+		t.Errorf("writing into a tree changed later answers: %q, %d", again, e)
+	}
+}
+
+func holdSideBySide[T comparable](t *testing.T, answers func() ([][]T, []any)) {
+	t.Helper()
 	lists, rest := answers()
 	var group sync.WaitGroup
 	for range 8 {
@@ -201,6 +275,11 @@ func TestP2CallsSideBySide(t *testing.T) {
 		})
 	}
 	group.Wait()
+}
+
+func TestP2CallsSideBySide(t *testing.T) {
+	holdSideBySide(t, blockAnswers)
+	holdSideBySide(t, fileAnswers)
 }
 
 func TestP1ListsOfAnyLength(t *testing.T) {
@@ -249,13 +328,17 @@ func TestP1NoPanicAtAnyArguments(t *testing.T) {
 		if l, e := salvage.Encode(m, data); e != api.OK && len(l) != 0 || e == api.OK && len(l) != m {
 			t.Fatalf("Encode(%d, %q) = %q, %d", m, data, l, e)
 		}
+		if l, e := salvage.Pack(named("a"), k, m, size); e != api.OK && len(l) != 0 || e == api.OK && len(l) != k+m {
+			t.Fatalf("Pack(.., %d, %d, %d) = %q, %d", k, m, size, l, e)
+		}
 	}
 }
 
 func TestP1NoGoroutineRunsOn(t *testing.T) {
 	before := runtime.NumGoroutine()
 	for range 50 {
-		answers()
+		blockAnswers()
+		fileAnswers()
 	}
 	// Goroutines of the test runner's own may be about to end; none may have been added.
 	for range 100 {

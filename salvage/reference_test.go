@@ -1,6 +1,7 @@
 package salvage_test
 
 import (
+	"fmt"
 	"math/rand"
 	"strings"
 
@@ -109,4 +110,130 @@ func chosen(all []string, numbers ...int) []api.Block {
 		have = append(have, at(n, all[n]))
 	}
 	return have
+}
+
+// slowStream lays out files whether they are a tree or not; how many there are, and how long their names are, must fit a byte.
+func slowStream(files []api.File) string {
+	stream := []byte{byte(len(files))}
+	for _, f := range files {
+		stream = append(stream, byte(len(f.Name)))
+		stream = append(stream, f.Name...)
+		stream = append(stream, byte(len(f.Data)%256), byte(len(f.Data)/256))
+		stream = append(stream, f.Data...)
+	}
+	return string(stream)
+}
+
+// slowIsTree goes by the words, each name against each other one.
+func slowIsTree(files []api.File) bool {
+	for i, f := range files {
+		if !slowIsName(f.Name) || len(f.Data) > 200 {
+			return false
+		}
+		for j, other := range files {
+			if i < j && f.Name >= other.Name || i != j && strings.HasPrefix(other.Name, f.Name+"/") {
+				return false
+			}
+		}
+	}
+	return len(files) <= 8
+}
+
+func slowIsName(name string) bool {
+	return len(name) >= 1 && len(name) <= 12 && strings.Trim(name, "abcdefghijklmnopqrstuvwxyz/") == "" &&
+		name[0] != '/' && name[len(name)-1] != '/' && !strings.Contains(name, "//")
+}
+
+// slowTree takes one byte after the other, and asks of each thing when its last byte has come. With no tree it tells the place.
+func slowTree(stream string) (tree []api.File, place int, ok bool) {
+	const (
+		count = iota
+		nameLength
+		name
+		dataLength
+		data
+		behind
+	)
+	files, kind, begin, need := 0, count, 0, 1
+	for i := range len(stream) {
+		if kind == behind {
+			return nil, i, false
+		}
+		if i-begin+1 < need {
+			continue
+		}
+		thing := stream[begin : i+1]
+		number := int(thing[0])
+		right := true
+		switch kind {
+		case count:
+			files, right = number, number <= 8
+			kind, need = nameLength, 1
+		case nameLength:
+			right = number >= 1 && number <= 12
+			kind, need = name, number
+		case name:
+			tree = append(tree, api.File{Name: thing})
+			right = slowIsTree(tree)
+			kind, need = dataLength, 2
+		case dataLength:
+			number += 256 * int(thing[1])
+			right = number <= 200
+			kind, need = data, number
+		case data:
+			tree[len(tree)-1].Data = thing
+			kind, need = nameLength, 1
+		}
+		if !right {
+			return nil, begin, false
+		}
+		if kind == data && need == 0 {
+			kind, need = nameLength, 1
+		}
+		if kind == nameLength && len(tree) == files {
+			kind = behind
+		}
+		begin = i + 1
+	}
+	if kind != behind {
+		return nil, len(stream), false
+	}
+	return tree, 0, true
+}
+
+// slowLow tells a number's bytes, the lowest first.
+func slowLow(n, count int) string {
+	var bytes []byte
+	for range count {
+		bytes = append(bytes, byte(n%256))
+		n /= 256
+	}
+	return string(bytes)
+}
+
+func slowSealed(s string) string { return s + slowSum(s) }
+
+// slowVolumes goes stripe by stripe, and adds a frame to each volume.
+func slowVolumes(bytes string, k, m, size int) []api.File {
+	numbers := slowLow(k, 1) + slowLow(m, 1) + slowLow(size/8, 1)
+	key := slowSum("salvage" + numbers + bytes)
+	frames := make([]string, k+m)
+	stripes := 0
+	for rest := bytes; rest != ""; stripes++ {
+		var blocks []string
+		for range k {
+			block := rest[:min(size, len(rest))]
+			rest = rest[len(block):]
+			blocks = append(blocks, block+strings.Repeat("\x00", size-len(block)))
+		}
+		for v, block := range append(blocks, slowEncode(m, blocks)...) {
+			frames[v] += slowSealed("B" + slowLow(v, 1) + slowLow(stripes, 2) + key + block)
+		}
+	}
+	manifest := slowSealed("M" + numbers + slowLow(stripes, 2) + slowLow(len(bytes), 3) + key)
+	var volumes []api.File
+	for v, f := range frames {
+		volumes = append(volumes, api.File{Name: fmt.Sprintf("v%02d", v), Data: manifest + f + manifest})
+	}
+	return volumes
 }

@@ -3,9 +3,12 @@ package salvage
 
 import (
 	"salvage/api"
+	"salvage/archive"
 	"salvage/code"
 	"salvage/field"
+	"salvage/raw"
 	"salvage/sum"
+	"salvage/trees"
 )
 
 // Sum tells the sum of bytes (P3).
@@ -65,13 +68,34 @@ func Rebuild(k, m int, have []api.Block) ([]string, api.Errno) {
 }
 
 // Flat tells a tree's stream (P5).
-func Flat(tree []api.File) (string, api.Errno) { return "", api.OK }
+func Flat(tree []api.File) (string, api.Errno) {
+	if !trees.Is(tree) {
+		return "", api.ErrTree
+	}
+	return trees.Stream(tree), api.OK
+}
 
 // Tree tells the tree whose stream it is (P5).
-func Tree(stream string) ([]api.File, api.Errno, int) { return nil, api.OK, 0 }
+func Tree(stream string) (tree []api.File, e api.Errno, place int) {
+	defer func() {
+		if fault, ok := raw.Caught(recover()); ok {
+			tree, e, place = nil, api.ErrTree, fault.Place
+		}
+	}()
+	return trees.Read(stream), api.OK, 0
+}
 
 // Pack archives a tree (P6).
-func Pack(tree []api.File, k, m, size int) ([]api.File, api.Errno) { return nil, api.OK }
+func Pack(tree []api.File, k, m, size int) ([]api.File, api.Errno) {
+	if !code.Fits(k, m, size) {
+		return nil, api.ErrArg
+	}
+	stream, e := Flat(tree)
+	if e != api.OK {
+		return nil, e
+	}
+	return archive.Volumes(stream, k, m, size), api.OK
+}
 
 // Unpack gets a tree back (P7).
 func Unpack(files []api.File) ([]api.File, api.Errno, int) { return nil, api.OK, 0 }

@@ -1,6 +1,8 @@
 // Package sum: the eight bytes by which damaged bytes are known.
 package sum
 
+import "salvage/raw"
+
 const (
 	modulus      = 2147483647
 	firstFactor  = 48271
@@ -15,9 +17,5 @@ func Of(s string) string {
 		first = (firstFactor*first + b + 1) % modulus
 		second = (secondFactor*second + b + 3) % modulus
 	}
-	return fourBytes(first) + fourBytes(second)
-}
-
-func fourBytes(n uint64) string {
-	return string([]byte{byte(n), byte(n >> 8), byte(n >> 16), byte(n >> 24)})
+	return raw.Bytes(int(first), 4) + raw.Bytes(int(second), 4)
 }

@@ -12,9 +12,3 @@ func TestOf(t *testing.T) {
 		}
 	}
 }
-
-func TestLowestByteFirst(t *testing.T) {
-	if got := fourBytes(0x7a6b5c4d); got != "\x4d\x5c\x6b\x7a" {
-		t.Errorf("fourBytes = %q", got)
-	}
-}
