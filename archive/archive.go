@@ -11,9 +11,14 @@ import (
 
 // Volumes tells the volumes of the archive of these bytes; k, m and size must be those of a code.
 func Volumes(bytes string, k, m, size int) []api.File {
-	x := describe(bytes, k, m, size)
-	stripes := x.complete(x.dataBlocks(bytes))
-	volumes := make([]api.File, k+m)
+	var plans code.Plans
+	return describe(bytes, k, m, size).volumes(bytes, &plans)
+}
+
+// volumes tells those of the archive of these bytes, which must be the bytes of this manifest.
+func (x manifest) volumes(bytes string, plans *code.Plans) []api.File {
+	stripes := x.complete(x.dataBlocks(bytes), plans)
+	volumes := make([]api.File, x.k+x.m)
 	for v := range volumes {
 		volumes[v] = api.File{Name: nameOf(v), Data: x.volume(v, stripes)}
 	}
@@ -39,16 +44,20 @@ func cut(stripe string, size int) []api.Block {
 	return blocks
 }
 
-// complete tells all k + m blocks of each stripe of which k are there.
-func (x manifest) complete(stripes [][]api.Block) [][]string {
+// complete tells all k + m blocks of each stripe, made of the first k that are there.
+func (x manifest) complete(stripes [][]api.Block, plans *code.Plans) [][]string {
 	all := make([][]string, len(stripes))
-	var plans code.Plans
+	sideBySide(len(stripes), func(s int) { all[s] = plans.Complete(x.k, x.m, stripes[s]) })
+	return all
+}
+
+// sideBySide works so many stripes out, each by a goroutine, and ends when all of these have.
+func sideBySide(stripes int, work func(s int)) {
 	var group sync.WaitGroup
-	for s, have := range stripes {
-		group.Go(func() { all[s] = plans.Complete(x.k, x.m, have) })
+	for s := range stripes {
+		group.Go(func() { work(s) })
 	}
 	group.Wait()
-	return all
 }
 
 // volume tells the data of the volume number v.

@@ -61,8 +61,8 @@ func TestStripesKeepTheirPlaces(t *testing.T) {
 	for range 20 {
 		x := describe(string(bytes), 1, 2, 8)
 		stripes := x.dataBlocks(string(bytes))
-		all := x.complete(stripes)
-		var plans code.Plans
+		var shared, plans code.Plans
+		all := x.complete(stripes, &shared)
 		for s, have := range stripes {
 			if want := plans.Complete(1, 2, have); !slices.Equal(all[s], want) {
 				t.Fatalf("stripe %d: %q, want %q", s, all[s], want)

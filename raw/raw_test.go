@@ -39,6 +39,20 @@ func TestReaderReads(t *testing.T) {
 	}
 }
 
+func TestReaderFromAPlaceOn(t *testing.T) {
+	for place, want := range []string{"abc", "bc", "c", ""} {
+		r := NewReaderAt("abc", place)
+		r.Expect(want)
+		r.Expect("")
+		r.End()
+	}
+	for _, place := range []int{-1, 4, int(^uint(0) >> 1), -int(^uint(0)>>1) - 1} {
+		if fault, gaveUp := faultOf(func() { NewReaderAt("abc", place) }); !gaveUp || fault.Place != place {
+			t.Errorf("from %d on: gave up %t at %d", place, gaveUp, fault.Place)
+		}
+	}
+}
+
 func TestReaderGivesUp(t *testing.T) {
 	for _, c := range []struct {
 		what  string
@@ -50,6 +64,8 @@ func TestReaderGivesUp(t *testing.T) {
 		{"a number behind the end", func(r *Reader) { r.Number(4, 0, 0) }, 5},
 		{"a number below the least", func(r *Reader) { r.Number(1, 100, 200) }, 2},
 		{"a number above the most", func(r *Reader) { r.Number(2, 0, 98+100*256) }, 2},
+		{"another text", func(r *Reader) { r.Expect("cx") }, 2},
+		{"a text that goes on", func(r *Reader) { r.Expect("cdef") }, 5},
 		{"something behind", (*Reader).End, 2},
 		{"a thing of its own", func(*Reader) { GiveUp(77) }, 77},
 	} {

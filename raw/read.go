@@ -16,6 +16,14 @@ type Reader struct {
 // NewReader tells a reader of these bytes.
 func NewReader(bytes string) *Reader { return &Reader{bytes: bytes} }
 
+// NewReaderAt tells a reader of these bytes from a place on; if that is not among them or their end, it gives up.
+func NewReaderAt(bytes string, place int) *Reader {
+	if place < 0 || place > len(bytes) {
+		GiveUp(place)
+	}
+	return &Reader{bytes: bytes, place: place}
+}
+
 // Place tells where the next thing begins.
 func (x *Reader) Place() int { return x.place }
 
@@ -40,6 +48,14 @@ func (x *Reader) Number(count, least, most int) int {
 		GiveUp(begin)
 	}
 	return n
+}
+
+// Expect reads this very text.
+func (x *Reader) Expect(text string) {
+	begin := x.place
+	if x.Text(len(text)) != text {
+		GiveUp(begin)
+	}
 }
 
 // End sees to it that nothing is left.

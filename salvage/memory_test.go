@@ -1,6 +1,7 @@
 package salvage_test
 
 import (
+	"maps"
 	"math/rand"
 	"runtime"
 	"slices"
@@ -90,6 +91,47 @@ func TestP2FlatAndPackLeaveWhatIsHandedIn(t *testing.T) {
 	}
 }
 
+// someFiles tells lists of files of which Unpack, Verify and Repair answer each of their errors, or OK.
+func someFiles() map[string][]api.File {
+	r := rand.New(rand.NewSource(16))
+	whole, _ := salvage.Pack(someTree(), 2, 3, 8)
+	others := []api.File{file("x", "some other file"), file("v05", "no volume"), file("x", "once more")}
+	return map[string][]api.File{
+		"whole":             whole,
+		"with others":       slices.Concat(others, whole),
+		"some lost":         slices.Concat(whole[3:], others),
+		"damaged":           damaged(r, whole, randomMarks(r, 26, 2, 5), 8),
+		"too few":           damaged(r, whole, randomMarks(r, 26, 1, 5), 8),
+		"no manifest":       others,
+		"nothing":           nil,
+		"bytes of no tree":  slowVolumes("no tree", 1, 1, 8),
+		"no bytes":          slowVolumes("", 1, 1, 8),
+		"another key":       alone(someStream, 1, 0, 1, 2, 10, slowKey(someStream, 1, 0, 8)),
+		"the first of them": {whole[1], file("v00", ""), whole[0], whole[2]},
+	}
+}
+
+func TestP2ReadingLeavesWhatIsHandedIn(t *testing.T) {
+	for what, list := range someFiles() {
+		files, all := withRoom(list, file("v00", "spare room"))
+		before := slices.Clone(all)
+		salvage.Unpack(files)
+		salvage.Verify(files)
+		salvage.Repair(files)
+		if !slices.Equal(all, before) {
+			t.Errorf("%s: a call wrote into its list or its spare room: %q, before %q", what, all, before)
+		}
+	}
+}
+
+// What stands in the spare room of a list is no part of it.
+func TestP2SpareRoomIsNotRead(t *testing.T) {
+	l := packed(t, someTree(), 1, 1, 8)
+	room := slices.Concat([]api.File{file("x", "y")}, l)
+	refuses(t, "the volumes stand behind the list", room[:1], api.ErrManifest, 0)
+	repairs(t, "other files stand behind the list", slices.Concat(l, room)[:2], l, api.OK, 0)
+}
+
 func TestP2AnswersShareNothingWithArguments(t *testing.T) {
 	r := rand.New(rand.NewSource(11))
 	data := randomBlocks(r, 1, 16)
@@ -133,6 +175,20 @@ func TestP2FilesShareNothingWithArguments(t *testing.T) {
 	}
 }
 
+func TestP2WhatIsReadSharesNothingWithArguments(t *testing.T) {
+	for what, files := range someFiles() {
+		tree, _, _ := salvage.Unpack(files)
+		repaired, _, _ := salvage.Repair(files)
+		for _, answer := range slices.Concat(tree, repaired) {
+			for _, f := range files {
+				if overlap(answer.Data, f.Data) || overlap(answer.Data, f.Name) || overlap(answer.Name, f.Name) || overlap(answer.Name, f.Data) {
+					t.Errorf("%s: %q of the answer is memory of %q", what, answer.Name, f.Name)
+				}
+			}
+		}
+	}
+}
+
 // scribble writes a mark over a list and its spare room.
 func scribble[T any](list []T, mark T) {
 	list = list[:cap(list)]
@@ -153,6 +209,10 @@ func blockAnswers() (lists [][]string, rest []any) {
 		l, e := salvage.Rebuild(4, 3, chosen(all, numbers...))
 		lists, rest = append(lists, l), append(rest, e)
 	}
+	for _, files := range inOrder(someFiles()) {
+		l, e := salvage.Verify(files)
+		lists, rest = append(lists, l), append(rest, e)
+	}
 	rest = append(rest, salvage.Sum(all[0]))
 	for _, a := range []int{0, 1, 77, 255, 256} {
 		product, e := salvage.Times(a, 200)
@@ -160,6 +220,15 @@ func blockAnswers() (lists [][]string, rest []any) {
 		rest = append(rest, product, e, inverse, f)
 	}
 	return lists, rest
+}
+
+// inOrder tells the lists by what they are called, so that they stand in one order each time.
+func inOrder(lists map[string][]api.File) [][]api.File {
+	var list [][]api.File
+	for _, what := range slices.Sorted(maps.Keys(lists)) {
+		list = append(list, lists[what])
+	}
+	return list
 }
 
 // fileAnswers is what the calls on trees and archives tell of some fixed arguments.
@@ -177,6 +246,11 @@ func fileAnswers() (lists [][]api.File, rest []any) {
 	for _, s := range []string{stream, "\x00", "", stream[:50], stream + "x"} {
 		l, e, place := salvage.Tree(s)
 		lists, rest = append(lists, l), append(rest, e, place)
+	}
+	for _, files := range inOrder(someFiles()) {
+		tree, e, n := salvage.Unpack(files)
+		repaired, f, stripe := salvage.Repair(files)
+		lists, rest = append(lists, tree, repaired), append(rest, e, n, f, stripe)
 	}
 	return lists, rest
 }
@@ -260,13 +334,32 @@ func TestP2TreesAreNotKept(t *testing.T) {
 	}
 }
 
+func TestP2VolumesAreNotKept(t *testing.T) {
+	tree := someTree()
+	whole := packed(t, tree, 2, 2, 8)
+	kept := slices.Clone(whole)
+	files := append(slices.Clone(whole[1:]), file("x", "y"))
+	unpacked, _, _ := salvage.Unpack(files)
+	marks, _ := salvage.Verify(files)
+	keptMarks := slices.Clone(marks)
+	repaired, _, _ := salvage.Repair(files)
+	scribble(files, file("v00", "scribbled"))
+	if !slices.Equal(unpacked, tree) || !slices.Equal(marks, keptMarks) || !slices.Equal(repaired, append(kept, file("x", "y"))) {
+		t.Errorf("writing into the files changed answers: %q, %q, %q", unpacked, marks, repaired)
+	}
+	refuses(t, "scribbled over", files, api.ErrManifest, 0)
+	scribble(repaired, file("v01", "scribbled"))
+	unpacks(t, "once more", whole[2:], tree, api.OK, 0)
+	repairs(t, "once more", whole[2:], kept[:4], api.OK, 0)
+}
+
 func holdSideBySide[T comparable](t *testing.T, answers func() ([][]T, []any)) {
 	t.Helper()
 	lists, rest := answers()
 	var group sync.WaitGroup
 	for range 8 {
 		group.Go(func() {
-			for range 20 {
+			for range 10 {
 				l, r := answers()
 				if !sameLists(l, lists) || !slices.Equal(r, rest) {
 					t.Error("side by side the same arguments got another answer")

@@ -6,6 +6,7 @@ import (
 	"strings"
 
 	"salvage/api"
+	"salvage/salvage"
 )
 
 // What stands here is worked out straight from the document's words, by other means than the program's, to hold its answers against.
@@ -213,10 +214,23 @@ func slowLow(n, count int) string {
 
 func slowSealed(s string) string { return s + slowSum(s) }
 
+func slowManifest(k, m, eighths, stripes, length int, key string) string {
+	return slowSealed("M" + slowLow(k, 1) + slowLow(m, 1) + slowLow(eighths, 1) + slowLow(stripes, 2) + slowLow(length, 3) + key)
+}
+
+func slowFrame(volume, stripe int, key, block string) string {
+	return slowSealed("B" + slowLow(volume, 1) + slowLow(stripe, 2) + key + block)
+}
+
+func slowKey(bytes string, k, m, size int) string {
+	return slowSum("salvage" + slowLow(k, 1) + slowLow(m, 1) + slowLow(size/8, 1) + bytes)
+}
+
+func slowName(v int) string { return fmt.Sprintf("v%02d", v) }
+
 // slowVolumes goes stripe by stripe, and adds a frame to each volume.
 func slowVolumes(bytes string, k, m, size int) []api.File {
-	numbers := slowLow(k, 1) + slowLow(m, 1) + slowLow(size/8, 1)
-	key := slowSum("salvage" + numbers + bytes)
+	key := slowKey(bytes, k, m, size)
 	frames := make([]string, k+m)
 	stripes := 0
 	for rest := bytes; rest != ""; stripes++ {
@@ -227,13 +241,129 @@ func slowVolumes(bytes string, k, m, size int) []api.File {
 			blocks = append(blocks, block+strings.Repeat("\x00", size-len(block)))
 		}
 		for v, block := range append(blocks, slowEncode(m, blocks)...) {
-			frames[v] += slowSealed("B" + slowLow(v, 1) + slowLow(stripes, 2) + key + block)
+			frames[v] += slowFrame(v, stripes, key, block)
 		}
 	}
-	manifest := slowSealed("M" + numbers + slowLow(stripes, 2) + slowLow(len(bytes), 3) + key)
+	manifest := slowManifest(k, m, size/8, stripes, len(bytes), key)
 	var volumes []api.File
 	for v, f := range frames {
-		volumes = append(volumes, api.File{Name: fmt.Sprintf("v%02d", v), Data: manifest + f + manifest})
+		volumes = append(volumes, api.File{Name: slowName(v), Data: manifest + f + manifest})
 	}
 	return volumes
+}
+
+func slowNumber(bytes string) int {
+	n := 0
+	for i := len(bytes) - 1; i >= 0; i-- {
+		n = 256*n + int(bytes[i])
+	}
+	return n
+}
+
+// slowFound is what is found in a list of files, and what comes of it.
+type slowFound struct {
+	manifest   string // empty if there is no good one
+	k, m, size int
+	marks      []string
+	bytes      string
+	e          api.Errno // what Repair answers
+	stripe     int
+}
+
+func slowFind(files []api.File) slowFound {
+	x := slowFound{manifest: slowManifestThatCounts(files), e: api.ErrManifest}
+	if x.manifest == "" {
+		return x
+	}
+	x.k, x.m, x.size, x.e = int(x.manifest[1]), int(x.manifest[2]), 8*int(x.manifest[3]), api.OK
+	filled := ""
+	for s := range slowNumber(x.manifest[4:6]) {
+		marks := ""
+		var good []api.Block
+		for v := range x.k + x.m {
+			block, ok := x.slowGood(files, v, s)
+			if ok {
+				good, marks = append(good, at(v, block)), marks+"1"
+			} else {
+				marks += "0"
+			}
+		}
+		x.marks = append(x.marks, marks)
+		if len(good) < x.k && x.e == api.OK {
+			x.e, x.stripe = api.ErrFew, s
+		}
+		if x.e == api.OK {
+			all, _ := salvage.Rebuild(x.k, x.m, good)
+			filled += strings.Join(all[:x.k], "")
+		}
+	}
+	if x.e != api.OK {
+		return x
+	}
+	x.bytes = filled[:slowNumber(x.manifest[6:9])]
+	if slowKey(x.bytes, x.k, x.m, x.size) != x.manifest[9:17] {
+		x.bytes, x.e = "", api.ErrStream
+	}
+	return x
+}
+
+func slowFile(files []api.File, name string) string {
+	for _, f := range files {
+		if f.Name == name {
+			return f.Data
+		}
+	}
+	return ""
+}
+
+func slowManifestThatCounts(files []api.File) string {
+	for v := range 12 {
+		data := slowFile(files, slowName(v))
+		if len(data) < 25 {
+			continue
+		}
+		for _, s := range []string{data[:25], data[len(data)-25:]} {
+			if slowIsGoodManifest(s) {
+				return s
+			}
+		}
+	}
+	return ""
+}
+
+func slowIsGoodManifest(s string) bool {
+	k, m, size := int(s[1]), int(s[2]), 8*int(s[3])
+	if s[0] != 'M' || s != slowSealed(s[:17]) || k < 1 || k+m > 12 || size < 8 || size > 64 {
+		return false
+	}
+	stripes, length := 0, slowNumber(s[6:9])
+	for stripes*k*size < length {
+		stripes++
+	}
+	return length <= 2000 && stripes == slowNumber(s[4:6])
+}
+
+func (x slowFound) slowGood(files []api.File, v, s int) (string, bool) {
+	data := slowFile(files, slowName(v))
+	begin := 25 + s*(x.size+20)
+	if len(data) < begin+x.size+20 {
+		return "", false
+	}
+	block := data[begin+12 : begin+12+x.size]
+	return block, strings.HasPrefix(data[begin:], slowFrame(v, s, x.manifest[9:17], block))
+}
+
+// slowRepaired goes by the names, and asks of each whether it is one of the first so many volumes.
+func (x slowFound) slowRepaired(files []api.File) []api.File {
+	list := slowVolumes(x.bytes, x.k, x.m, x.size)
+	for _, f := range files {
+		other := true
+		for v := range x.k + x.m {
+			other = other && f.Name != slowName(v)
+		}
+		if other {
+			list = append(list, f)
+		}
+	}
+	return list
 }

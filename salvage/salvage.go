@@ -98,13 +98,39 @@ func Pack(tree []api.File, k, m, size int) ([]api.File, api.Errno) {
 }
 
 // Unpack gets a tree back (P7).
-func Unpack(files []api.File) ([]api.File, api.Errno, int) { return nil, api.OK, 0 }
+func Unpack(files []api.File) ([]api.File, api.Errno, int) {
+	found, ok := archive.Find(files)
+	if !ok {
+		return nil, api.ErrManifest, 0
+	}
+	stream, e, stripe := found.Bytes()
+	if e != api.OK {
+		return nil, e, stripe
+	}
+	return Tree(stream)
+}
 
 // Verify tells which blocks are good (P8).
-func Verify(files []api.File) ([]string, api.Errno) { return nil, api.OK }
+func Verify(files []api.File) ([]string, api.Errno) {
+	found, ok := archive.Find(files)
+	if !ok {
+		return nil, api.ErrManifest
+	}
+	return found.Marks(), api.OK
+}
 
 // Repair makes the volumes anew (P9).
-func Repair(files []api.File) ([]api.File, api.Errno, int) { return nil, api.OK, 0 }
+func Repair(files []api.File) ([]api.File, api.Errno, int) {
+	found, ok := archive.Find(files)
+	if !ok {
+		return nil, api.ErrManifest, 0
+	}
+	bytes, e, stripe := found.Bytes()
+	if e != api.OK {
+		return nil, e, stripe
+	}
+	return found.Repaired(bytes, files), api.OK, 0
+}
 
 // Writer archives bytes that come piece by piece.
 type Writer struct{}
