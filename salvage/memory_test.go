@@ -189,6 +189,59 @@ func TestP2WhatIsReadSharesNothingWithArguments(t *testing.T) {
 	}
 }
 
+// lent tells a text in memory that can be written over, and that memory.
+func lent(s string) (string, []byte) {
+	bytes := []byte(s)
+	return unsafe.String(unsafe.SliceData(bytes), len(bytes)), bytes
+}
+
+func TestP2PiecesAreNotKept(t *testing.T) {
+	tree := someTree()
+	stream, _ := salvage.Flat(tree)
+	w := newWriter(t, 2, 1, 16)
+	for i, cuts := 0, []int{0, 100, 100, 300, len(stream)}; i+1 < len(cuts); i++ {
+		piece, bytes := lent(stream[cuts[i]:cuts[i+1]])
+		writes(t, w, piece, api.OK)
+		scribble(bytes, '?')
+	}
+	closesWriter(t, "pieces written over", w, stream, 2, 1, 16)
+
+	x := newReader(t)
+	for _, p := range mixed(rand.New(rand.NewSource(17)), packed(t, tree, 2, 1, 16), 300) {
+		name, nameBytes := lent(p.Name)
+		piece, bytes := lent(p.Data)
+		gives(t, x, name, piece, api.OK)
+		scribble(nameBytes, '?')
+		scribble(bytes, '?')
+	}
+	gives(t, x, "???", "no volume", api.OK)
+	closesReader(t, "pieces written over", x, tree, api.OK, 0)
+}
+
+func TestP2PiecesAreNotShared(t *testing.T) {
+	stream := slowStream(someTree())
+	w := newWriter(t, 1, 1, 64)
+	writes(t, w, stream, api.OK)
+	volumes, _ := w.Close()
+	for _, f := range volumes {
+		if overlap(f.Data, stream) {
+			t.Errorf("%s is memory of what was written", f.Name)
+		}
+	}
+	x := newReader(t)
+	for _, f := range volumes {
+		gives(t, x, f.Name, f.Data, api.OK)
+	}
+	tree, _, _ := x.Close()
+	for _, f := range tree {
+		for _, v := range volumes {
+			if overlap(f.Data, v.Data) || overlap(f.Name, v.Data) {
+				t.Errorf("%q is memory of what was given", f.Name)
+			}
+		}
+	}
+}
+
 // scribble writes a mark over a list and its spare room.
 func scribble[T any](list []T, mark T) {
 	list = list[:cap(list)]
@@ -251,6 +304,34 @@ func fileAnswers() (lists [][]api.File, rest []any) {
 		tree, e, n := salvage.Unpack(files)
 		repaired, f, stripe := salvage.Repair(files)
 		lists, rest = append(lists, tree, repaired), append(rest, e, n, f, stripe)
+	}
+	return pieceAnswers(lists, rest)
+}
+
+// pieceAnswers puts behind these answers what writers and readers of some fixed pieces tell.
+func pieceAnswers(lists [][]api.File, rest []any) ([][]api.File, []any) {
+	for _, c := range [][3]int{{1, 0, 8}, {2, 3, 8}, {0, 1, 8}} {
+		x, e := salvage.NewWriter(c[0], c[1], c[2])
+		if rest = append(rest, e); x == nil {
+			continue
+		}
+		for _, piece := range []string{"\x01\x01", "", "a", long, "\x04\x00data"} {
+			rest = append(rest, x.Write(piece))
+		}
+		for range 2 {
+			l, e := x.Close()
+			lists, rest = append(lists, l), append(rest, e)
+		}
+	}
+	for _, files := range inOrder(someFiles()) {
+		x := salvage.NewReader()
+		for _, f := range files {
+			rest = append(rest, x.Give(f.Name, f.Data), x.Give(f.Name, long))
+		}
+		for range 2 {
+			tree, e, n := x.Close()
+			lists, rest = append(lists, tree), append(rest, e, n)
+		}
 	}
 	return lists, rest
 }

@@ -6,6 +6,7 @@ import (
 	"salvage/archive"
 	"salvage/code"
 	"salvage/field"
+	"salvage/pieces"
 	"salvage/raw"
 	"salvage/sum"
 	"salvage/trees"
@@ -133,25 +134,73 @@ func Repair(files []api.File) ([]api.File, api.Errno, int) {
 }
 
 // Writer archives bytes that come piece by piece.
-type Writer struct{}
+type Writer struct {
+	k, m, size int
+	written    []byte
+	closed     bool
+}
 
 // NewWriter makes a writer (P10).
-func NewWriter(k, m, size int) (*Writer, api.Errno) { return nil, api.OK }
+func NewWriter(k, m, size int) (*Writer, api.Errno) {
+	if !code.Fits(k, m, size) {
+		return nil, api.ErrArg
+	}
+	return &Writer{k: k, m: m, size: size}, api.OK
+}
 
 // Write takes a piece (P10).
-func (x *Writer) Write(s string) api.Errno { return api.OK }
+func (x *Writer) Write(s string) api.Errno {
+	if x.closed {
+		return api.ErrClosed
+	}
+	if len(s) > api.MaxStream-len(x.written) {
+		return api.ErrLong
+	}
+	x.written = append(x.written, s...)
+	return api.OK
+}
 
 // Close tells the volumes (P10).
-func (x *Writer) Close() ([]api.File, api.Errno) { return nil, api.OK }
+func (x *Writer) Close() ([]api.File, api.Errno) {
+	if x.closed {
+		return nil, api.ErrClosed
+	}
+	volumes := archive.Volumes(string(x.written), x.k, x.m, x.size)
+	// What was written is of no use any more, so it is not kept.
+	*x = Writer{closed: true}
+	return volumes, api.OK
+}
 
 // Reader reads volumes that come piece by piece.
-type Reader struct{}
+type Reader struct {
+	files  pieces.Files
+	given  int // bytes of all pieces
+	closed bool
+}
 
 // NewReader makes a reader (P10).
-func NewReader() *Reader { return nil }
+func NewReader() *Reader { return &Reader{} }
 
 // Give takes a piece of a file (P10).
-func (x *Reader) Give(name, piece string) api.Errno { return api.OK }
+func (x *Reader) Give(name, piece string) api.Errno {
+	if x.closed {
+		return api.ErrClosed
+	}
+	if len(piece) > api.MaxGiven-x.given {
+		return api.ErrLong
+	}
+	x.files.Add(name, piece)
+	x.given += len(piece)
+	return api.OK
+}
 
 // Close tells the tree (P10).
-func (x *Reader) Close() ([]api.File, api.Errno, int) { return nil, api.OK, 0 }
+func (x *Reader) Close() ([]api.File, api.Errno, int) {
+	if x.closed {
+		return nil, api.ErrClosed, 0
+	}
+	files := x.files.List()
+	// What was given is of no use any more, so it is not kept.
+	*x = Reader{closed: true}
+	return Unpack(files)
+}
